@@ -1,6 +1,8 @@
 // Package sum: two check sums: see DOC.md.
 package sum
 
+import "vellum/running"
+
 // crcOfNibble has, for each value of four bits, what four steps of the
 // division leave of it. Half a byte at a time keeps the table short enough
 // to be written out, and still takes two steps a byte in place of eight.
@@ -22,32 +24,11 @@ func Crc(s string) uint32 {
 	return ^rest
 }
 
-const (
-	adlerBase = 65521
-
-	// Of so many bytes, even if all are 255 and both sums begin at their
-	// greatest, the second sum stays below 2 to the power 32: the modulo can
-	// wait until behind them. Of one byte more it would not.
-	adlerRun = 5552
-)
-
 // Adler is the Adler sum of a text (P4).
 func Adler(s string) uint32 {
-	a, b := uint32(1), uint32(0)
-	for len(s) > 0 {
-		n := min(len(s), adlerRun)
-		a, b = adlerAdd(a, b, s[:n])
-		s = s[n:]
+	sum := running.NoBytes
+	for i := range len(s) {
+		sum = sum.Add(s[i])
 	}
-	return b<<16 | a
-}
-
-// adlerAdd adds the bytes of a run of at most adlerRun to both sums, which are
-// below adlerBase ahead of it and behind it.
-func adlerAdd(a, b uint32, run string) (uint32, uint32) {
-	for i := range len(run) {
-		a += uint32(run[i])
-		b += a
-	}
-	return a % adlerBase, b % adlerBase
+	return uint32(sum)
 }

@@ -198,21 +198,6 @@ func TestAdlerIsAsTheDocumentWordsIt(t *testing.T) {
 	}
 }
 
-// Both sums at their greatest, and then as many bytes of 255 as are added
-// without a modulo: the one case in which a run too long would wrap round.
-func TestAdlerAtItsGreatestSums(t *testing.T) {
-	a, b := uint32(adlerBase-1), uint32(adlerBase-1)
-	wantA, wantB := uint64(a), uint64(b)
-	for range adlerRun {
-		wantA += 255
-		wantB += wantA
-	}
-	a, b = adlerAdd(a, b, strings.Repeat("\xff", adlerRun))
-	if uint64(a) != wantA%65521 || uint64(b) != wantB%65521 {
-		t.Errorf("P4: after a run of %d: %d, %d, want %d, %d", adlerRun, a, b, wantA%65521, wantB%65521)
-	}
-}
-
 func TestSumsDoNotPanic(t *testing.T) {
 	defer func() {
 		if r := recover(); r != nil {

@@ -1,0 +1,103 @@
+package bitrow
+
+import (
+	"errors"
+	"testing"
+
+	"vellum/fault"
+)
+
+// list is a source of a few bytes, and of what it answers behind them.
+type list struct {
+	bytes  []byte
+	behind error
+	asked  int
+}
+
+func (l *list) NextByte() (byte, error) {
+	l.asked++
+	if l.asked > len(l.bytes) {
+		return 0, l.behind
+	}
+	return l.bytes[l.asked-1], nil
+}
+
+func number(t *testing.T, r *Reader, width uint, want int) {
+	t.Helper()
+	if got, err := r.Number(width); got != want || err != nil {
+		t.Errorf("a number of %d bits: %d, %v, want %d", width, got, err, want)
+	}
+}
+
+func TestNumbersHaveTheirLowestBitFirst(t *testing.T) {
+	r := New(&list{bytes: []byte{0b10110_001, 0xff, 0x34, 0x12, 0b11000000}, behind: fault.End})
+	number(t, r, 3, 1)
+	number(t, r, 0, 0)
+	number(t, r, 7, 0b11_10110)
+	number(t, r, 6, 63)
+	number(t, r, 16, 0x1234)
+	for _, want := range []int{0, 0, 0, 0, 0, 0, 1, 1} {
+		if bit, err := r.Bit(); bit != want || err != nil {
+			t.Errorf("a bit: %d, %v, want %d", bit, err, want)
+		}
+	}
+}
+
+// No byte is asked for ahead of the first bit that is wanted of it.
+func TestNoByteIsTakenAheadOfNeed(t *testing.T) {
+	source := &list{bytes: []byte{1, 2, 3, 4, 5, 6}, behind: fault.Failed}
+	r := New(source)
+	taken := func(bytes, bits int) {
+		t.Helper()
+		if source.asked != bytes || r.Taken() != bytes || r.Position() != bits {
+			t.Errorf("asked %d, taken %d, position %d, want %d, %d and %d", source.asked, r.Taken(), r.Position(), bytes, bytes, bits)
+		}
+	}
+	taken(0, 0)
+	r.Bit()
+	taken(1, 1)
+	r.Number(7)
+	taken(1, 8)
+	r.Align()
+	taken(1, 8)
+	r.Number(16)
+	taken(3, 24)
+	r.Number(1)
+	taken(4, 25)
+	r.Align()
+	taken(4, 32)
+	number(t, r, 8, 5)
+	taken(5, 40)
+}
+
+func TestSourceWithoutBytes(t *testing.T) {
+	own := errors.New("its own")
+	for _, behind := range []error{fault.End, fault.Failed, fault.At("chunk", 2, fault.End), fault.At("chunk", 2, fault.Failed), own} {
+		early := errors.Is(behind, fault.End)
+		for _, read := range []func(*Reader) error{
+			func(r *Reader) error { _, err := r.Bit(); return err },
+			func(r *Reader) error { _, err := r.Number(9); return err },
+		} {
+			r := New(&list{bytes: []byte{255}, behind: behind})
+			r.Number(8)
+			err := read(r)
+			var malformed *fault.Malformed
+			if errors.As(err, &malformed) != early || !early && err != behind {
+				t.Errorf("behind the last byte comes %v: %v", behind, err)
+			}
+		}
+	}
+}
+
+func TestEnd(t *testing.T) {
+	var malformed *fault.Malformed
+	if err := New(&list{behind: fault.At("chunk", 2, fault.End)}).End(); err != nil {
+		t.Errorf("at the end: %v", err)
+	}
+	if err := New(&list{bytes: []byte{0}, behind: fault.End}).End(); !errors.As(err, &malformed) {
+		t.Errorf("ahead of a byte: %v", err)
+	}
+	if err := New(&list{behind: fault.Failed}).End(); !errors.Is(err, fault.Failed) {
+		t.Errorf("at a source that fails: %v", err)
+	}
+}
