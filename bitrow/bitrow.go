@@ -1,31 +1,21 @@
 // Package bitrow: a row of bits out of any source of bytes.
 package bitrow
 
-import (
-	"errors"
-
-	"vellum/fault"
-)
-
-// Source gives bytes, one at a time. If it has none to give, it answers with
-// fault.End or fault.Failed, or with an error around one of them.
-type Source interface {
-	NextByte() (byte, error)
-}
+import "vellum/source"
 
 // Reader reads bits, of each byte the lowest first. It takes no byte out of
 // its source ahead of the first bit that is wanted of it: so it can tell how
 // many bytes were needed, and a source that fails later on does no harm.
 type Reader struct {
-	source Source
-	held   uint32 // bits that were taken and not yet read: the next one is the lowest
-	count  uint   // how many bits are held; behind each read fewer than 8
-	taken  int
+	from  source.Bytes
+	held  uint32 // bits that were taken and not yet read: the next one is the lowest
+	count uint   // how many bits are held; behind each read fewer than 8
+	taken int
 }
 
 // New makes a reader of the bits of a source.
-func New(source Source) *Reader {
-	return &Reader{source: source}
+func New(from source.Bytes) *Reader {
+	return &Reader{from: from}
 }
 
 // Taken is how many bytes were taken out of the source.
@@ -67,22 +57,12 @@ func (r *Reader) Align() {
 
 // End asks whether the source has no further byte.
 func (r *Reader) End() error {
-	_, err := r.source.NextByte()
-	switch {
-	case err == nil:
-		return fault.NewMalformed("there are bytes too many")
-	case errors.Is(err, fault.End):
-		return nil
-	}
-	return err
+	return source.NoMore(r.from)
 }
 
 func (r *Reader) take() error {
-	b, err := r.source.NextByte()
+	b, err := source.Need(r.from)
 	if err != nil {
-		if errors.Is(err, fault.End) {
-			return fault.NewMalformed("it ends too early")
-		}
 		return err
 	}
 	r.held |= uint32(b) << r.count

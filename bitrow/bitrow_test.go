@@ -5,22 +5,8 @@ import (
 	"testing"
 
 	"vellum/fault"
+	"vellum/given"
 )
-
-// list is a source of a few bytes, and of what it answers behind them.
-type list struct {
-	bytes  []byte
-	behind error
-	asked  int
-}
-
-func (l *list) NextByte() (byte, error) {
-	l.asked++
-	if l.asked > len(l.bytes) {
-		return 0, l.behind
-	}
-	return l.bytes[l.asked-1], nil
-}
 
 func number(t *testing.T, r *Reader, width uint, want int) {
 	t.Helper()
@@ -30,7 +16,7 @@ func number(t *testing.T, r *Reader, width uint, want int) {
 }
 
 func TestNumbersHaveTheirLowestBitFirst(t *testing.T) {
-	r := New(&list{bytes: []byte{0b10110_001, 0xff, 0x34, 0x12, 0b11000000}, behind: fault.End})
+	r := New(&given.Source{Text: "\xb1\xff\x34\x12\xc0", Behind: fault.End})
 	number(t, r, 3, 1)
 	number(t, r, 0, 0)
 	number(t, r, 7, 0b11_10110)
@@ -45,12 +31,12 @@ func TestNumbersHaveTheirLowestBitFirst(t *testing.T) {
 
 // No byte is asked for ahead of the first bit that is wanted of it.
 func TestNoByteIsTakenAheadOfNeed(t *testing.T) {
-	source := &list{bytes: []byte{1, 2, 3, 4, 5, 6}, behind: fault.Failed}
+	source := &given.Source{Text: "\x01\x02\x03\x04\x05\x06", Behind: fault.Failed}
 	r := New(source)
 	taken := func(bytes, bits int) {
 		t.Helper()
-		if source.asked != bytes || r.Taken() != bytes || r.Position() != bits {
-			t.Errorf("asked %d, taken %d, position %d, want %d, %d and %d", source.asked, r.Taken(), r.Position(), bytes, bytes, bits)
+		if source.Asked != bytes || r.Taken() != bytes || r.Position() != bits {
+			t.Errorf("asked %d, taken %d, position %d, want %d, %d and %d", source.Asked, r.Taken(), r.Position(), bytes, bytes, bits)
 		}
 	}
 	taken(0, 0)
@@ -78,7 +64,7 @@ func TestSourceWithoutBytes(t *testing.T) {
 			func(r *Reader) error { _, err := r.Bit(); return err },
 			func(r *Reader) error { _, err := r.Number(9); return err },
 		} {
-			r := New(&list{bytes: []byte{255}, behind: behind})
+			r := New(&given.Source{Text: "\xff", Behind: behind})
 			r.Number(8)
 			err := read(r)
 			var malformed *fault.Malformed
@@ -91,13 +77,13 @@ func TestSourceWithoutBytes(t *testing.T) {
 
 func TestEnd(t *testing.T) {
 	var malformed *fault.Malformed
-	if err := New(&list{behind: fault.At("chunk", 2, fault.End)}).End(); err != nil {
+	if err := New(&given.Source{Behind: fault.At("chunk", 2, fault.End)}).End(); err != nil {
 		t.Errorf("at the end: %v", err)
 	}
-	if err := New(&list{bytes: []byte{0}, behind: fault.End}).End(); !errors.As(err, &malformed) {
+	if err := New(&given.Source{Text: "\x00", Behind: fault.End}).End(); !errors.As(err, &malformed) {
 		t.Errorf("ahead of a byte: %v", err)
 	}
-	if err := New(&list{behind: fault.Failed}).End(); !errors.Is(err, fault.Failed) {
+	if err := New(&given.Source{Behind: fault.Failed}).End(); !errors.Is(err, fault.Failed) {
 		t.Errorf("at a source that fails: %v", err)
 	}
 }

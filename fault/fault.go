@@ -14,6 +14,9 @@ var (
 	Failed = errors.New("the source has failed")
 )
 
+// TooLarge is a picture that has more pixels than it may have.
+var TooLarge = errors.New("more pixels than there may be")
+
 // Malformed is a stream that is not as it must be.
 type Malformed struct {
 	Why string
@@ -50,6 +53,8 @@ func Errno(err error) api.Errno {
 		return api.OK
 	case errors.As(err, &malformed):
 		return api.ErrMalformed
+	case errors.Is(err, TooLarge):
+		return api.ErrTooLarge
 	case errors.Is(err, End):
 		// An end that nobody was waiting for came too early.
 		return api.ErrMalformed

@@ -14,6 +14,7 @@ func TestErrnoAsksThroughAllLayers(t *testing.T) {
 	}{
 		{nil, api.OK},
 		{NewMalformed("sort 3"), api.ErrMalformed},
+		{TooLarge, api.ErrTooLarge},
 		{Failed, api.ErrSource},
 		{End, api.ErrMalformed},
 		{errors.New("a source's own"), api.ErrSource},

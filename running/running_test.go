@@ -2,6 +2,7 @@ package running
 
 import (
 	"hash/adler32"
+	"hash/crc32"
 	"testing"
 )
 
@@ -36,6 +37,37 @@ func TestAdlerAfterEachByte(t *testing.T) {
 		sum = sum.Add(row[i])
 		if want := adler32.Checksum(row[:i+1]); uint32(sum) != want {
 			t.Fatalf("P4: of %d bytes: %d, want %d", i+1, sum, want)
+		}
+	}
+}
+
+// From sums of all sorts, with every byte, by the document's eight steps.
+func TestCrcAddIsAsTheDocumentWordsIt(t *testing.T) {
+	for _, sum := range []uint32{0, 1, 255, 256, 0x80000000, 0xffffffff, 0x12345678, 0xedb88320, 3421780262} {
+		for c := range uint32(256) {
+			rest := ^sum ^ c
+			for range 8 {
+				lowest := rest & 1
+				rest >>= 1
+				if lowest == 1 {
+					rest ^= 3988292384
+				}
+			}
+			if got := Crc(sum).Add(byte(c)); uint32(got) != ^rest {
+				t.Fatalf("P3: from %d with %d: %d, want %d", sum, c, got, ^rest)
+			}
+		}
+	}
+}
+
+func TestCrcAfterEachByte(t *testing.T) {
+	row := make([]byte, 3000)
+	var sum Crc
+	for i := range row {
+		row[i] = byte(7*i + i/256)
+		sum = sum.Add(row[i])
+		if want := crc32.ChecksumIEEE(row[:i+1]); uint32(sum) != want {
+			t.Fatalf("P3: of %d bytes: %d, want %d", i+1, sum, want)
 		}
 	}
 }

@@ -6,6 +6,7 @@ import (
 	"vellum/bitrow"
 	"vellum/fault"
 	"vellum/ring"
+	"vellum/source"
 )
 
 // Put takes the bytes that are put out, one after the other. With an error
@@ -14,8 +15,8 @@ type Put func(b byte) error
 
 // Packed unpacks the packed bytes at the beginning of a source, with distances
 // up to window, and at most so many bytes. It answers how many bytes it took.
-func Packed(source bitrow.Source, window, most int, put Put) (int, error) {
-	bits := bitrow.New(source)
+func Packed(from source.Bytes, window, most int, put Put) (int, error) {
+	bits := bitrow.New(from)
 	u := newUnpacker(bits, window, most, put)
 	if err := u.blocks(); err != nil {
 		return 0, err

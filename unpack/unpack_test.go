@@ -11,22 +11,8 @@ import (
 	"testing"
 
 	"vellum/fault"
+	"vellum/given"
 )
-
-// given is a source of a text that answers with an error behind it.
-type given struct {
-	text   string
-	behind error
-	asked  int
-}
-
-func (g *given) NextByte() (byte, error) {
-	g.asked++
-	if g.asked > len(g.text) {
-		return 0, g.behind
-	}
-	return g.text[g.asked-1], nil
-}
 
 func sample() string {
 	return strings.Repeat("packed bytes and ", 30) + "something else: 0123456789"
@@ -60,7 +46,7 @@ func TestSourceThatFailsAnywhere(t *testing.T) {
 	for _, s := range streams() {
 		for n := range len(s) {
 			var out strings.Builder
-			taken, err := Packed(&given{text: s[:n], behind: fault.Failed}, 32768, 10000, out.WriteByte)
+			taken, err := Packed(&given.Source{Text: s[:n], Behind: fault.Failed}, 32768, 10000, out.WriteByte)
 			if !errors.Is(err, fault.Failed) || taken != 0 {
 				t.Errorf("it fails behind %d bytes: %d, %v", n, taken, err)
 			}
@@ -69,7 +55,7 @@ func TestSourceThatFailsAnywhere(t *testing.T) {
 	row := rowOfSample()
 	for n := range len(row) + 1 {
 		var out strings.Builder
-		err := Wrapped(&given{text: row[:n], behind: fault.Failed}, len(sample()), out.WriteByte)
+		err := Wrapped(&given.Source{Text: row[:n], Behind: fault.Failed}, len(sample()), out.WriteByte)
 		if !errors.Is(err, fault.Failed) {
 			t.Errorf("a row that fails behind %d bytes: %v", n, err)
 		}
@@ -81,7 +67,7 @@ func TestSourceThatEndsTooEarly(t *testing.T) {
 	for _, s := range streams() {
 		for n := range len(s) {
 			var out strings.Builder
-			_, err := Packed(&given{text: s[:n], behind: fault.At("chunk", 4, fault.End)}, 32768, 10000, out.WriteByte)
+			_, err := Packed(&given.Source{Text: s[:n], Behind: fault.At("chunk", 4, fault.End)}, 32768, 10000, out.WriteByte)
 			if !errors.As(err, &malformed) {
 				t.Errorf("it ends behind %d bytes: %v", n, err)
 			}
@@ -92,11 +78,11 @@ func TestSourceThatEndsTooEarly(t *testing.T) {
 // Nothing is asked for behind the byte with the last bit of packed bytes.
 func TestNothingIsAskedForBehindPackedBytes(t *testing.T) {
 	for _, s := range streams() {
-		source := &given{text: s, behind: fault.Failed}
+		source := &given.Source{Text: s, Behind: fault.Failed}
 		var out strings.Builder
 		taken, err := Packed(source, 32768, 10000, out.WriteByte)
-		if err != nil || taken != len(s) || source.asked != len(s) {
-			t.Errorf("%d bytes, %d asked for, %d told, %v", len(s), source.asked, taken, err)
+		if err != nil || taken != len(s) || source.Asked != len(s) {
+			t.Errorf("%d bytes, %d asked for, %d told, %v", len(s), source.Asked, taken, err)
 		}
 	}
 }
@@ -104,13 +90,13 @@ func TestNothingIsAskedForBehindPackedBytes(t *testing.T) {
 // Behind a wrapped row it is asked just once whether there is more.
 func TestBehindAWrappedRow(t *testing.T) {
 	row := rowOfSample()
-	source := &given{text: row, behind: fault.End}
+	source := &given.Source{Text: row, Behind: fault.End}
 	var out strings.Builder
 	if err := Wrapped(source, len(sample()), out.WriteByte); err != nil || out.String() != sample() {
 		t.Errorf("%q, %v", out.String(), err)
 	}
-	if source.asked != len(row)+1 {
-		t.Errorf("%d times asked for %d bytes", source.asked, len(row))
+	if source.Asked != len(row)+1 {
+		t.Errorf("%d times asked for %d bytes", source.Asked, len(row))
 	}
 }
 
@@ -152,7 +138,7 @@ func TestMalformedIsToldAtOnce(t *testing.T) {
 		{"the symbol 286", "\x1b\x03"},
 	} {
 		var malformed *fault.Malformed
-		_, err := Packed(&given{text: c.packed, behind: fault.Failed}, 32768, 10000, func(byte) error { return nil })
+		_, err := Packed(&given.Source{Text: c.packed, Behind: fault.Failed}, 32768, 10000, func(byte) error { return nil })
 		if !errors.As(err, &malformed) {
 			t.Errorf("%s: %v", c.name, err)
 		}
@@ -171,7 +157,7 @@ func TestMalformedIsToldAtOnce(t *testing.T) {
 		{"a byte behind", "\x78\x9c\x4b\x04\x00\x00\x62\x00\x62\x00", 1},
 	} {
 		var malformed *fault.Malformed
-		err := Wrapped(&given{text: c.row, behind: fault.Failed}, c.size, func(byte) error { return nil })
+		err := Wrapped(&given.Source{Text: c.row, Behind: fault.Failed}, c.size, func(byte) error { return nil })
 		if !errors.As(err, &malformed) {
 			t.Errorf("a row, %s: %v", c.name, err)
 		}
@@ -181,16 +167,16 @@ func TestMalformedIsToldAtOnce(t *testing.T) {
 func TestWhereItWasIsTold(t *testing.T) {
 	nowhere := func(byte) error { return nil }
 	// Two blocks without bytes, of 10 bits each, and one of sort 3.
-	_, err := Packed(&given{text: "\x02\x08\x60", behind: fault.End}, 1, 0, nowhere)
+	_, err := Packed(&given.Source{Text: "\x02\x08\x60", Behind: fault.End}, 1, 0, nowhere)
 	if err == nil || err.Error() != "block 2: bit 23: malformed: no block is of sort 3" {
 		t.Errorf("%v", err)
 	}
-	err = Wrapped(&given{text: "\x78\x9c\x07", behind: fault.End}, 0, nowhere)
+	err = Wrapped(&given.Source{Text: "\x78\x9c\x07", Behind: fault.End}, 0, nowhere)
 	if err == nil || err.Error() != "byte 3: block 0: bit 19: malformed: no block is of sort 3" {
 		t.Errorf("%v", err)
 	}
 	var place *fault.Place
-	_, err = Packed(&given{text: "\x02\x08", behind: fault.Failed}, 1, 0, nowhere)
+	_, err = Packed(&given.Source{Text: "\x02\x08", Behind: fault.Failed}, 1, 0, nowhere)
 	if !errors.As(err, &place) || place.Unit != "block" || place.Number != 1 {
 		t.Errorf("%v", err)
 	}
@@ -204,12 +190,12 @@ func TestTakerThatStops(t *testing.T) {
 	enough := errors.New("enough")
 	for _, s := range streams() {
 		whole := 0
-		if _, err := Packed(&given{text: s, behind: fault.End}, 32768, 10000, func(byte) error { whole++; return nil }); err != nil {
+		if _, err := Packed(&given.Source{Text: s, Behind: fault.End}, 32768, 10000, func(byte) error { whole++; return nil }); err != nil {
 			t.Fatal(err)
 		}
 		for stop := 1; stop <= whole; stop++ {
 			came := 0
-			_, err := Packed(&given{text: s, behind: fault.End}, 32768, 10000, func(byte) error {
+			_, err := Packed(&given.Source{Text: s, Behind: fault.End}, 32768, 10000, func(byte) error {
 				if came++; came == stop {
 					return enough
 				}

@@ -4,12 +4,13 @@ import (
 	"vellum/bitrow"
 	"vellum/fault"
 	"vellum/running"
+	"vellum/source"
 )
 
 // Wrapped unpacks a wrapped row, which is all that a source has, and which puts
 // out just so many bytes.
-func Wrapped(source bitrow.Source, size int, put Put) error {
-	bits := bitrow.New(source)
+func Wrapped(from source.Bytes, size int, put Put) error {
+	bits := bitrow.New(from)
 	if err := wrapped(bits, size, put); err != nil {
 		return fault.At("byte", bits.Taken(), err)
 	}
