@@ -55,11 +55,6 @@ func (r *Reader) Align() {
 	r.held, r.count = 0, 0
 }
 
-// End asks whether the source has no further byte.
-func (r *Reader) End() error {
-	return source.NoMore(r.from)
-}
-
 func (r *Reader) take() error {
 	b, err := source.Need(r.from)
 	if err != nil {

@@ -74,16 +74,3 @@ func TestSourceWithoutBytes(t *testing.T) {
 		}
 	}
 }
-
-func TestEnd(t *testing.T) {
-	var malformed *fault.Malformed
-	if err := New(&given.Source{Behind: fault.At("chunk", 2, fault.End)}).End(); err != nil {
-		t.Errorf("at the end: %v", err)
-	}
-	if err := New(&given.Source{Text: "\x00", Behind: fault.End}).End(); !errors.As(err, &malformed) {
-		t.Errorf("ahead of a byte: %v", err)
-	}
-	if err := New(&given.Source{Behind: fault.Failed}).End(); !errors.Is(err, fault.Failed) {
-		t.Errorf("at a source that fails: %v", err)
-	}
-}

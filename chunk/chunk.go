@@ -35,45 +35,37 @@ func (r *Reader) Type() string { return r.name }
 // Left is how many bytes of the data of the chunk at hand were not read yet.
 func (r *Reader) Left() int { return r.left }
 
-// Small says whether the first letter of the type is small.
-func (r *Reader) Small() bool { return isSmall(r.name[0]) }
-
 // Open reads the eight bytes that stand ahead of the first chunk.
 func (r *Reader) Open() error {
 	return source.Expect(r.from, opening, "it does not begin as a picture does")
 }
 
-// Begin reads how many bytes the next chunk has, and its type.
-func (r *Reader) Begin() error {
+// BeginAs reads how many bytes the next chunk has, and its type, where there is
+// only one that may be.
+func (r *Reader) BeginAs(name string, size int) error {
+	r.number++
+	if err := source.Expect(r.from, fourBytes(uint32(size))+name, "no "+name+" of its size"); err != nil {
+		return err
+	}
+	r.name, r.left, r.sum = name, size, running.CrcOf(name)
+	return nil
+}
+
+// Begin reads how many bytes the next chunk has, and its type, which must be one
+// that may stand there.
+func (r *Reader) Begin(may May) error {
 	r.number++
 	left, err := source.Count(r.from)
 	if err != nil {
 		return err
 	}
-	r.left, r.sum = left, 0
-	return r.readType()
-}
-
-func (r *Reader) readType() error {
-	name := make([]byte, 4)
-	for i := range name {
-		b, err := source.Need(r.from)
-		if err != nil {
-			return err
-		}
-		if !isCapital(b) && (!isSmall(b) || i == 2) {
-			return fault.NewMalformed("a letter of a type that may not be")
-		}
-		r.sum = r.sum.Add(b)
-		name[i] = b
+	name, err := readType(r.from, may)
+	if err != nil {
+		return err
 	}
-	r.name = string(name)
+	r.name, r.left, r.sum = name, left, running.CrcOf(name)
 	return nil
 }
-
-func isCapital(b byte) bool { return b >= 'A' && b <= 'Z' }
-
-func isSmall(b byte) bool { return b >= 'a' && b <= 'z' }
 
 // NextByte reads a byte of the data of the chunk at hand; behind the last one
 // it answers fault.End.
@@ -105,12 +97,12 @@ func fourBytes(n uint32) string {
 	return string([]byte{byte(n >> 24), byte(n >> 16), byte(n >> 8), byte(n)})
 }
 
-// Next goes on to the next chunk.
-func (r *Reader) Next() error {
+// Next goes on to the next chunk, which must be one that may stand there.
+func (r *Reader) Next(may May) error {
 	if err := r.Finish(); err != nil {
 		return err
 	}
-	return r.Begin()
+	return r.Begin(may)
 }
 
 // End asks whether nothing stands behind the chunk at hand.

@@ -2,28 +2,17 @@ package chunk
 
 import (
 	"errors"
-	"strings"
 	"testing"
 
 	"vellum/fault"
 	"vellum/given"
 )
 
+func anyType(string) bool { return true }
+
 func isMalformed(err error) bool {
 	var malformed *fault.Malformed
 	return errors.As(err, &malformed)
-}
-
-// readAll reads the bytes of a source up to its end.
-func readAll(from interface{ NextByte() (byte, error) }) (string, error) {
-	var out strings.Builder
-	for {
-		b, err := from.NextByte()
-		if err != nil {
-			return out.String(), err
-		}
-		out.WriteByte(b)
-	}
 }
 
 func TestOpen(t *testing.T) {
@@ -54,10 +43,7 @@ func TestChunksAreReadWithoutAskingAhead(t *testing.T) {
 			t.Errorf("%v, number %d, type %s, %d left, asked %d times; want %d, %s, %d, %d", err, r.Number(), r.Type(), r.Left(), from.Asked, number, name, left, asked)
 		}
 	}
-	see(r.Begin(), 0, "IHDR", 4, 8)
-	if r.Small() {
-		t.Error("IHDR begins with a capital")
-	}
+	see(r.Begin(anyType), 0, "IHDR", 4, 8)
 	for i := range 2 {
 		b, err := r.NextByte()
 		see(err, 0, "IHDR", 3-i, 9+i)
@@ -66,10 +52,7 @@ func TestChunksAreReadWithoutAskingAhead(t *testing.T) {
 		}
 	}
 	see(r.Finish(), 0, "IHDR", 0, 16)
-	see(r.Begin(), 1, "teXt", 0, 24)
-	if !r.Small() {
-		t.Error("teXt begins with a small letter")
-	}
+	see(r.Begin(anyType), 1, "teXt", 0, 24)
 	if _, err := r.NextByte(); !errors.Is(err, fault.End) || from.Asked != 24 {
 		t.Errorf("data of a chunk without data: %v, asked %d times", err, from.Asked)
 	}
@@ -82,11 +65,11 @@ func TestChunksAreReadWithoutAskingAhead(t *testing.T) {
 func TestNextGoesOnWhateverWasRead(t *testing.T) {
 	for read := range 5 {
 		r := New(&given.Source{Text: given.Chunk("abCd", "data") + given.Chunk("IEND", ""), Behind: fault.End})
-		r.Begin()
+		r.Begin(anyType)
 		for range read {
 			r.NextByte()
 		}
-		if err := r.Next(); err != nil || r.Type() != "IEND" || r.Number() != 1 {
+		if err := r.Next(anyType); err != nil || r.Type() != "IEND" || r.Number() != 1 {
 			t.Errorf("behind %d bytes of data: %v, type %s, number %d", read, err, r.Type(), r.Number())
 		}
 		if err := r.Finish(); err != nil {
@@ -103,7 +86,7 @@ func TestChunkThatEndsOrFailsAnywhere(t *testing.T) {
 	for n := range len(text) {
 		read := func(behind error) error {
 			r := New(&given.Source{Text: text[:n], Behind: behind})
-			if err := r.Begin(); err != nil {
+			if err := r.Begin(anyType); err != nil {
 				return err
 			}
 			return r.Finish()
@@ -120,7 +103,7 @@ func TestChunkThatEndsOrFailsAnywhere(t *testing.T) {
 // What is malformed is told as soon as it is read: the source fails right behind.
 func TestMalformedIsToldAtOnce(t *testing.T) {
 	for _, head := range []string{"\x80", "\xff", "\x00\x00\x00\x00@", "\x00\x00\x00\x00[", "\x00\x00\x00\x00a`", "\x00\x00\x00\x00A{", "\x00\x00\x00\x00ABc", "\x00\x00\x00\x00AB1", "\x00\x00\x00\x00ABC\xc1", "\x00\x00\x00\x00ABC!"} {
-		if err := New(&given.Source{Text: head, Behind: fault.Failed}).Begin(); !isMalformed(err) {
+		if err := New(&given.Source{Text: head, Behind: fault.Failed}).Begin(anyType); !isMalformed(err) {
 			t.Errorf("%q: %v", head, err)
 		}
 	}
@@ -129,56 +112,51 @@ func TestMalformedIsToldAtOnce(t *testing.T) {
 		b := []byte(text[:i+1])
 		b[i] ^= 1
 		r := New(&given.Source{Text: string(b), Behind: fault.Failed})
-		r.Begin()
+		r.Begin(anyType)
 		if err := r.Finish(); !isMalformed(err) {
 			t.Errorf("another sum, at byte %d: %v", i, err)
 		}
 	}
 }
 
-func TestJoined(t *testing.T) {
-	last := given.Chunk("IEND", "")
-	for _, c := range []struct {
-		text, want string
-		number     int
-	}{
-		{given.Chunk("IDAT", "abc") + last, "abc", 1},
-		{given.Chunk("IDAT", "") + last, "", 1},
-		{given.Chunk("IDAT", "a") + given.Chunk("IDAT", "bc") + last, "abc", 2},
-		{given.Chunk("IDAT", "") + given.Chunk("IDAT", "ab") + given.Chunk("IDAT", "") + given.Chunk("IDAT", "") + given.Chunk("IDAT", "c") + given.Chunk("IDAT", "") + last, "abc", 6},
-	} {
-		r := New(&given.Source{Text: c.text, Behind: fault.Failed})
-		r.Begin()
-		joined := Join(r)
-		got, err := readAll(joined)
-		if got != c.want || !errors.Is(err, fault.End) || r.Type() != "IEND" || r.Number() != c.number {
-			t.Errorf("%q: %q, %v, at %s, number %d", c.text, got, err, r.Type(), r.Number())
+// The type, and how many bytes: the first byte that is another one settles it.
+func TestBeginAs(t *testing.T) {
+	text := given.Chunk("IHDR", "data")
+	from := &given.Source{Text: text, Behind: fault.Failed}
+	r := New(from)
+	if err := r.BeginAs("IHDR", 4); err != nil || r.Number() != 0 || r.Type() != "IHDR" || r.Left() != 4 || from.Asked != 8 {
+		t.Errorf("%v, number %d, type %s, %d left, asked %d times", err, r.Number(), r.Type(), r.Left(), from.Asked)
+	}
+	if err := r.Finish(); err != nil || from.Asked != len(text) {
+		t.Errorf("%v, asked %d times", err, from.Asked)
+	}
+	for i := range 8 {
+		b := []byte(text[:i+1])
+		b[i] ^= 1
+		if err := New(&given.Source{Text: string(b), Behind: fault.Failed}).BeginAs("IHDR", 4); !isMalformed(err) {
+			t.Errorf("%q: %v", b, err)
 		}
-		// Asked again, it is still at its end.
-		if _, err := joined.NextByte(); !errors.Is(err, fault.End) || r.Number() != c.number {
-			t.Errorf("%q: %v, number %d", c.text, err, r.Number())
-		}
-		if err := r.Finish(); err != nil {
-			t.Error(err)
+		if err := New(&given.Source{Text: text[:i], Behind: fault.Failed}).BeginAs("IHDR", 4); !errors.Is(err, fault.Failed) {
+			t.Errorf("it fails behind %d bytes: %v", i, err)
 		}
 	}
 }
 
-// The end of the source is no end of the joined data: a chunk must follow.
-func TestJoinedThatEndsOrIsMalformed(t *testing.T) {
-	two := given.Chunk("IDAT", "ab") + given.Chunk("IDAT", "c")
-	wrong := []byte(given.Chunk("IDAT", "ab"))
-	wrong[len(wrong)-1] ^= 1
-	for _, text := range []string{two, two[:len(two)-1], two + "\x00\x00", two + "\x00\x00\x00\x00IEN", two + "\x80", two + "\x00\x00\x00\x00IEnD", string(wrong) + two} {
-		r := New(&given.Source{Text: text, Behind: fault.End})
-		r.Begin()
-		if _, err := readAll(Join(r)); !isMalformed(err) {
-			t.Errorf("%q: %v", text, err)
+// The first letter that no type has that may stand there settles it.
+func TestTypesThatMayNotStandThere(t *testing.T) {
+	may := func(letters string) bool { return IsSmall(letters) || OneOf(letters, "IDAT", "IEND", "PLTE") }
+	for _, name := range []string{"IDAT", "IEND", "PLTE", "abCd", "tRNS", "iDAT", "zZZZ"} {
+		r := New(&given.Source{Text: given.Four(0) + name, Behind: fault.Failed})
+		if err := r.Begin(may); err != nil || r.Type() != name {
+			t.Errorf("%s: %v, type %s", name, err, r.Type())
 		}
 	}
-	r := New(&given.Source{Text: two, Behind: fault.Failed})
-	r.Begin()
-	if got, err := readAll(Join(r)); got != "abc" || !errors.Is(err, fault.Failed) {
-		t.Errorf("%q, %v", got, err)
+	for _, letters := range []string{"A", "J", "IH", "Id", "IDO", "IEA", "IDAD", "IENd", "PLTe", "PD"} {
+		if err := New(&given.Source{Text: given.Four(0) + letters, Behind: fault.Failed}).Begin(may); !isMalformed(err) {
+			t.Errorf("%s: %v", letters, err)
+		}
+		if err := New(&given.Source{Text: given.Four(0) + letters[:len(letters)-1], Behind: fault.Failed}).Begin(may); !errors.Is(err, fault.Failed) {
+			t.Errorf("ahead of the last letter of %s: %v", letters, err)
+		}
 	}
 }

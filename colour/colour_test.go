@@ -12,11 +12,13 @@ import (
 	"vellum/source"
 )
 
+func anyType(string) bool { return true }
+
 // atHand makes a reader whose chunk at hand has data.
 func atHand(t *testing.T, data string) *chunk.Reader {
 	t.Helper()
 	r := chunk.New(source.OfText(given.Chunk("daTa", data)))
-	if err := r.Begin(); err != nil {
+	if err := r.Begin(anyType); err != nil {
 		t.Fatal(err)
 	}
 	return r
@@ -165,6 +167,22 @@ func TestTooManyOrInAnotherOrder(t *testing.T) {
 	}
 }
 
+// That a number is no sample may be settled by its first byte.
+func TestNumbersThatAreNoSampleAreToldAtOnce(t *testing.T) {
+	for _, c := range []struct {
+		depth int
+		data  string
+	}{{1, "\x01"}, {8, "\x01"}, {8, "\xff"}, {4, "\x00\x10"}, {1, "\x00\x02"}} {
+		data := chunk.New(&given.Source{Text: given.Four(2) + "daTa" + c.data, Behind: fault.Failed})
+		if err := data.Begin(anyType); err != nil {
+			t.Fatal(err)
+		}
+		if err := New(head.Head{Depth: c.depth, Kind: head.Grey}).ReadCover(data); !isMalformed(err) {
+			t.Errorf("depth %d, %x: %v", c.depth, c.data, err)
+		}
+	}
+}
+
 // A source that fails within the data is told as such.
 func TestSourceThatFails(t *testing.T) {
 	for _, c := range []struct {
@@ -181,7 +199,7 @@ func TestSourceThatFails(t *testing.T) {
 		for n := range c.size {
 			text := given.Four(c.size) + "daTa" + strings.Repeat("\x00", n)
 			data := chunk.New(&given.Source{Text: text, Behind: fault.Failed})
-			if err := data.Begin(); err != nil {
+			if err := data.Begin(anyType); err != nil {
 				t.Fatal(err)
 			}
 			if err := c.read(made(t, c.kind, 8, c.entries, ""), data); !errors.Is(err, fault.Failed) {

@@ -70,12 +70,9 @@ func (c *Colours) readClear(data *chunk.Reader) error {
 		return fault.NewMalformed("a tRNS of another size")
 	}
 	for range count {
-		sample, err := source.Short(data)
+		sample, err := source.Short(data, 1<<c.head.Depth)
 		if err != nil {
 			return err
-		}
-		if int(sample) >= 1<<c.head.Depth {
-			return fault.NewMalformed("a tRNS with a number that is no sample")
 		}
 		c.clear = append(c.clear, sample)
 	}

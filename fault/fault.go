@@ -14,6 +14,17 @@ var (
 	Failed = errors.New("the source has failed")
 )
 
+// Silent is a source that gave no byte too often: one that has failed as well.
+type Silent struct {
+	Times int
+}
+
+func (s *Silent) Error() string {
+	return "no byte came " + strconv.Itoa(s.Times) + " times: " + Failed.Error()
+}
+
+func (s *Silent) Unwrap() error { return Failed }
+
 // TooLarge is a picture that has more pixels than it may have.
 var TooLarge = errors.New("more pixels than there may be")
 
@@ -51,6 +62,8 @@ func Errno(err error) api.Errno {
 	switch {
 	case err == nil:
 		return api.OK
+	case errors.Is(err, Failed):
+		return api.ErrSource
 	case errors.As(err, &malformed):
 		return api.ErrMalformed
 	case errors.Is(err, TooLarge):
@@ -59,6 +72,6 @@ func Errno(err error) api.Errno {
 		// An end that nobody was waiting for came too early.
 		return api.ErrMalformed
 	}
-	// What is left is Failed, or an error that a source made for itself.
+	// What is left is an error that a source made for itself: it failed too.
 	return api.ErrSource
 }

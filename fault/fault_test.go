@@ -16,6 +16,7 @@ func TestErrnoAsksThroughAllLayers(t *testing.T) {
 		{NewMalformed("sort 3"), api.ErrMalformed},
 		{TooLarge, api.ErrTooLarge},
 		{Failed, api.ErrSource},
+		{&Silent{Times: 101}, api.ErrSource},
 		{End, api.ErrMalformed},
 		{errors.New("a source's own"), api.ErrSource},
 	} {
@@ -29,6 +30,19 @@ func TestErrnoAsksThroughAllLayers(t *testing.T) {
 			}
 			err = At("layer", layer, err)
 		}
+	}
+}
+
+// A source that was silent too long is one that has failed; and it can be asked
+// for, with how often no byte came.
+func TestSilentSourceHasFailed(t *testing.T) {
+	err := At("chunk", 1, At("source byte", 40, &Silent{Times: 101}))
+	var silent *Silent
+	if !errors.Is(err, Failed) || errors.Is(err, End) || !errors.As(err, &silent) || silent.Times != 101 {
+		t.Errorf("%v", err)
+	}
+	if want := "chunk 1: source byte 40: no byte came 101 times: the source has failed"; err.Error() != want {
+		t.Errorf("%q, want %q", err.Error(), want)
 	}
 }
 

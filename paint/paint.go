@@ -9,7 +9,7 @@ import (
 	"vellum/rows"
 )
 
-// Canvas is an image whose rows come one after the other.
+// Canvas is an image whose rows come one after the other, byte by byte.
 type Canvas struct {
 	head    head.Head
 	colours *colour.Colours
@@ -26,23 +26,31 @@ func (c *Canvas) Image() api.Image {
 	return api.Image{Width: c.head.Width, Height: c.head.Height, Pix: c.pix}
 }
 
-// Row paints the y-th row of a part.
-func (c *Canvas) Row(part rows.Part, y int, row []byte) error {
-	left := (part.Y + y*part.StepY) * c.head.Width
-	count := c.head.Kind.Samples()
-	var all [4]uint16
-	samples := all[:count]
-	for i := range part.Width {
-		for k := range samples {
-			samples[k] = sample(row, i*count+k, c.head.Depth)
-		}
-		pixel, err := c.colours.Pixel(samples)
+// Byte paints the pixels that get whole by the last one of the bytes so far of
+// the y-th row of a part.
+func (c *Canvas) Byte(part rows.Part, y int, sofar []byte) error {
+	left := (part.Y+y*part.StepY)*c.head.Width + part.X
+	bits := c.head.PixelBits()
+	// The last byte may have bits behind the last pixel, which say nothing.
+	end := min(8*len(sofar)/bits, part.Width)
+	for i := 8 * (len(sofar) - 1) / bits; i < end; i++ {
+		pixel, err := c.pixel(sofar, i)
 		if err != nil {
 			return fault.At("pixel", i, err)
 		}
-		copy(c.pix[4*(left+part.X+i*part.StepX):], pixel[:])
+		copy(c.pix[4*(left+i*part.StepX):], pixel[:])
 	}
 	return nil
+}
+
+// pixel is the i-th one of a row.
+func (c *Canvas) pixel(row []byte, i int) (colour.Pixel, error) {
+	var all [4]uint16
+	samples := all[:c.head.Kind.Samples()]
+	for k := range samples {
+		samples[k] = sample(row, i*len(samples)+k, c.head.Depth)
+	}
+	return c.colours.Pixel(samples)
 }
 
 // sample is the i-th sample of a row, of so many bits.

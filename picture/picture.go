@@ -14,15 +14,6 @@ import (
 	"vellum/unpack"
 )
 
-// The types of chunks that say something.
-const (
-	headType    = "IHDR"
-	entriesType = "PLTE"
-	coverType   = "tRNS"
-	rowsType    = "IDAT"
-	lastType    = "IEND"
-)
-
 // Read reads the picture that is all that a source has. It may have so many
 // pixels; if it has more, that is told behind the first chunk (fault.TooLarge).
 func Read(from source.Bytes, limit int) (api.Image, error) {
@@ -58,11 +49,8 @@ func readHead(chunks *chunk.Reader, limit int) (head.Head, error) {
 	if err := chunks.Open(); err != nil {
 		return head.Head{}, err
 	}
-	if err := chunks.Begin(); err != nil {
+	if err := chunks.BeginAs(headType, head.Size); err != nil {
 		return head.Head{}, err
-	}
-	if chunks.Type() != headType || chunks.Left() != head.Size {
-		return head.Head{}, fault.NewMalformed("the first chunk is no IHDR of 13 bytes")
 	}
 	of, err := head.Read(chunks)
 	if err != nil {
@@ -83,7 +71,7 @@ func readHead(chunks *chunk.Reader, limit int) (head.Head, error) {
 func readColours(chunks *chunk.Reader, of head.Head) (*colour.Colours, error) {
 	colours := colour.New(of)
 	for {
-		if err := chunks.Begin(); err != nil {
+		if err := chunks.Begin(mayStandAhead); err != nil {
 			return nil, err
 		}
 		if chunks.Type() == rowsType {
@@ -98,21 +86,13 @@ func readColours(chunks *chunk.Reader, of head.Head) (*colour.Colours, error) {
 	}
 }
 
-// readAhead reads a chunk ahead of the rows.
+// readAhead reads what a chunk ahead of the rows says, if it says something.
 func readAhead(chunks *chunk.Reader, colours *colour.Colours) error {
 	switch chunks.Type() {
 	case entriesType:
 		return colours.ReadEntries(chunks)
 	case coverType:
 		return colours.ReadCover(chunks)
-	}
-	return maySayNothing(chunks)
-}
-
-// maySayNothing says whether the chunk at hand is one that says nothing.
-func maySayNothing(chunks *chunk.Reader) error {
-	if !chunks.Small() || chunks.Type() == coverType {
-		return fault.NewMalformed("a chunk " + chunks.Type() + " that may not stand here")
 	}
 	return nil
 }
@@ -121,8 +101,9 @@ func maySayNothing(chunks *chunk.Reader) error {
 // the chunk behind them is at hand.
 func readRows(chunks *chunk.Reader, of head.Head, colours *colour.Colours) (api.Image, error) {
 	canvas := paint.New(of, colours)
-	into := rows.New(of, canvas.Row)
-	if err := unpack.Wrapped(chunk.Join(chunks), into.Size(), into.Put); err != nil {
+	into := rows.New(of, canvas.Byte)
+	data := chunk.Join(chunks, mayStandBehind)
+	if err := unpack.Wrapped(data, into.Size(), into.Put); err != nil {
 		return api.Image{}, err
 	}
 	return canvas.Image(), nil
@@ -131,10 +112,7 @@ func readRows(chunks *chunk.Reader, of head.Head, colours *colour.Colours) (api.
 // readRest reads the chunk at hand and all behind it.
 func readRest(chunks *chunk.Reader) error {
 	for chunks.Type() != lastType {
-		if err := maySayNothing(chunks); err != nil {
-			return err
-		}
-		if err := chunks.Next(); err != nil {
+		if err := chunks.Next(mayStandLast); err != nil {
 			return err
 		}
 	}

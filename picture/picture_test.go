@@ -4,12 +4,15 @@ import (
 	"bytes"
 	"compress/zlib"
 	"errors"
+	"fmt"
+	"slices"
 	"strings"
 	"testing"
 
 	"vellum/api"
 	"vellum/fault"
 	"vellum/given"
+	"vellum/source"
 )
 
 func wrapped(s string) string {
@@ -96,27 +99,34 @@ func TestMalformedIsToldAtOnce(t *testing.T) {
 	rows := given.Chunk("IDAT", wrapped("\x00\x00"))
 	for _, c := range []struct{ name, text string }{
 		{"the first byte", "\x88"},
-		{"another first chunk", opening + begun("teXt", 13)},
-		{"a first chunk of another size", opening + begun("IHDR", 14)},
-		{"a second head", grey + begun("IHDR", 13)},
-		{"an unknown capital", grey + begun("ABCD", 5)},
-		{"no rows", grey + begun("IEND", 0)},
+		{"another first chunk", opening + begun("t", 13)},
+		{"another first chunk, by its last letter", opening + begun("IHDT", 13)},
+		{"a first chunk of another size", opening + begun("", 14)},
+		{"a first chunk of a great size", opening + "\x00\x01"},
+		{"a second head", grey + begun("IH", 13)},
+		{"an unknown capital", grey + begun("A", 5)},
+		{"an unknown capital, by its last letter", grey + begun("PLTA", 5)},
+		{"no rows", grey + begun("IE", 0)},
 		{"entries of grey", grey + begun("PLTE", 3)},
 		{"too many entries", indices + begun("PLTE", 9)},
 		{"a second PLTE", indices + entries + begun("PLTE", 6)},
 		{"a tRNS ahead of a PLTE", indices + begun("tRNS", 1)},
 		{"a tRNS of another size", grey + begun("tRNS", 3)},
-		{"a tRNS with a number that is no sample", grey + begun("tRNS", 2) + "\x01\x00"},
+		{"a tRNS with a number that is no sample", grey + begun("tRNS", 2) + "\x01"},
 		{"rows without entries", indices + begun("IDAT", 5)},
 		{"no wrapped row", grey + begun("IDAT", 5) + "\x79"},
 		{"a filter above 4", grey + begun("IDAT", 50) + "\x78\x01\x01\x02\x00\xfd\xff\x05"},
 		{"an index without entry", indices + given.Chunk("PLTE", "abc") + begun("IDAT", 50) + "\x78\x01\x01\x02\x00\xfd\xff\x00\x80"},
-		{"more bytes than the rows have", grey + begun("IDAT", 50) + "\x78\x01\x01\x03\x00\xfc\xff"},
-		{"rows that end too early", grey + given.Chunk("IDAT", wrapped("\x00\x00")[:8]) + begun("teXt", 5)},
-		{"a byte behind the rows", grey + rows + begun("IDAT", 5) + "x"},
-		{"another chunk between the rows", grey + rows + quiet + begun("IDAT", 0)},
+		{"an index without entry, in the middle of a row", headOf(2, 1, 8, 3) + entries + begun("IDAT", 50) + "\x78\x01\x01\x03\x00\xfc\xff\x00\x02"},
+		{"more bytes than the rows have", grey + begun("IDAT", 50) + "\x78\x01\x01\x03\x00"},
+		{"fewer bytes than the rows have", grey + begun("IDAT", 50) + "\x78\x01\x01\x01\x00"},
+		{"rows that end too early", grey + given.Chunk("IDAT", wrapped("\x00\x00")[:8]) + begun("t", 5)},
+		{"rows that end too early, ahead of the last chunk", grey + given.Chunk("IDAT", wrapped("\x00\x00")[:8]) + begun("IE", 0)},
+		{"a byte behind the rows", grey + begun("IDAT", len(wrapped("\x00\x00"))+1) + wrapped("\x00\x00")},
+		{"a byte behind the rows, in another chunk", grey + rows + begun("IDAT", 1)},
+		{"another chunk between the rows", grey + rows + quiet + begun("ID", 0)},
 		{"a tRNS behind the rows", grey + rows + begun("tRNS", 2)},
-		{"a PLTE behind the rows", indices + entries + given.Chunk("IDAT", wrapped("\x00\x40")) + begun("PLTE", 6)},
+		{"a PLTE behind the rows", indices + entries + given.Chunk("IDAT", wrapped("\x00\x40")) + begun("P", 6)},
 		{"a last chunk with data", grey + rows + begun("IEND", 1)},
 		{"a byte behind the last chunk", grey + rows + last + "x"},
 	} {
@@ -131,7 +141,7 @@ func TestWhereItWasIsTold(t *testing.T) {
 	grey := headOf(1, 1, 8, 0)
 	for _, c := range []struct{ text, want string }{
 		{"x", "chunk -1: malformed: it does not begin as a picture does"},
-		{grey + quiet + begun("ABCD", 0), "chunk 2: malformed: a chunk ABCD that may not stand here"},
+		{grey + quiet + begun("ABCD", 0), "chunk 2: malformed: a type that may not stand here, which begins with A"},
 		{grey + given.Chunk("IDAT", "\x78") + given.Chunk("IDAT", "\x01\x07"), "chunk 2: byte 3: block 0: bit 19: malformed: no block is of sort 3"},
 		{grey + quiet + given.Chunk("IDAT", "\x78\x01\x01\x02\x00\xfd\xff\x05"), "chunk 2: byte 8: block 0: bit 64: row 0: malformed: a filter above 4"},
 		{indices + given.Chunk("PLTE", "abc") + given.Chunk("IDAT", "\x78\x01\x01\x02\x00\xfd\xff\x00\x40"), "chunk 2: byte 9: block 0: bit 72: row 0: pixel 1: malformed: an index that has no entry"},
@@ -144,5 +154,37 @@ func TestWhereItWasIsTold(t *testing.T) {
 	_, err := Read(&given.Source{Text: grey + begun("IDAT", 9) + "\x78\x01", Behind: fault.Failed}, 2)
 	if err == nil || err.Error() != "chunk 1: byte 2: block 0: bit 16: the source has failed" {
 		t.Errorf("%v", err)
+	}
+}
+
+// Where a source failed is told by each layer; what kind of error it is can be
+// asked through all of them.
+func TestWhereASourceFailedIsTold(t *testing.T) {
+	for _, c := range []struct {
+		come   int // how many bytes come
+		behind []int
+		want   string
+	}{
+		{0, []int{-1}, "chunk -1: source byte 0: answer 0: the source has failed"},
+		{12, []int{-1}, "chunk 0: source byte 12: answer 12: the source has failed"},
+		{12, []int{0, 0, -1}, "chunk 0: source byte 12: answer 14: the source has failed"},
+		{40, make([]int, 101), "chunk 1: source byte 40: no byte came 101 times: the source has failed"},
+		{len(right) - 1, []int{-1}, fmt.Sprintf("chunk 10: source byte %d: answer %d: the source has failed", len(right)-1, len(right)-1)},
+	} {
+		script := append(slices.Repeat([]int{1}, c.come), c.behind...)
+		_, err := Read(source.OneByOne(source.OfScript(right, script)), 2)
+		if err == nil || err.Error() != c.want {
+			t.Errorf("%v, want %s", err, c.want)
+		}
+		var place *fault.Place
+		if !errors.Is(err, fault.Failed) || isMalformed(err) || errors.Is(err, fault.End) || !errors.As(err, &place) || place.Unit != "chunk" {
+			t.Errorf("%v: another kind of error", err)
+		}
+	}
+	rows := len(headOf(1, 1, 8, 0)) + 8
+	text := headOf(1, 1, 8, 0) + given.Chunk("IDAT", "\x78\x01\x01\x02\x00\xfd\xff\x00\x01")
+	_, err := Read(source.OneByOne(source.OfScript(text, append(slices.Repeat([]int{1}, rows+8), -1))), 2)
+	if want := "chunk 1: byte 8: block 0: bit 64: source byte 49: answer 49: the source has failed"; err == nil || err.Error() != want {
+		t.Errorf("%v, want %s", err, want)
 	}
 }

@@ -32,7 +32,8 @@ func (l *line) put(b byte) error {
 
 func (l *line) whole() bool { return l.at == len(l.now) }
 
-func (l *line) bytes() []byte { return l.now[l.step:] }
+// sofar has the bytes that came behind the filter, if it came.
+func (l *line) sofar() []byte { return l.now[l.step:max(l.step, l.at)] }
 
 func (l *line) next() {
 	l.now, l.above = l.above, l.now

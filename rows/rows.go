@@ -5,9 +5,10 @@ import (
 	"vellum/head"
 )
 
-// Take takes a row, its filter undone: the y-th one of a part. It may not keep
-// the bytes. With an error there are no further rows.
-type Take func(part Part, y int, row []byte) error
+// Take takes the bytes so far of a row, the filter undone: of the y-th one of a
+// part. It is called with each byte that comes, so that one that may not be is
+// told at once. It may not keep the bytes. With an error no further ones come.
+type Take func(part Part, y int, sofar []byte) error
 
 // Rows puts the rows of a picture together out of single bytes.
 type Rows struct {
@@ -16,11 +17,11 @@ type Rows struct {
 	take  Take
 	part  int // the part at hand
 	y     int // which of its rows is at hand
-	told  int // how many rows were taken, of all parts
+	told  int // how many rows are whole, of all parts
 	line  line
 }
 
-// New makes the rows of a picture, which are taken as they get whole.
+// New makes the rows of a picture, which are taken as their bytes come.
 func New(of head.Head, take Take) *Rows {
 	r := &Rows{bits: of.PixelBits(), parts: Parts(of), take: take}
 	r.beginPart()
@@ -57,13 +58,17 @@ func (r *Rows) put(b byte) error {
 	if r.part == len(r.parts) {
 		return fault.NewMalformed("a byte behind the last row")
 	}
-	if err := r.line.put(b); err != nil || !r.line.whole() {
+	if err := r.line.put(b); err != nil {
 		return err
 	}
-	if err := r.take(r.parts[r.part], r.y, r.line.bytes()); err != nil {
-		return err
+	if sofar := r.line.sofar(); len(sofar) > 0 {
+		if err := r.take(r.parts[r.part], r.y, sofar); err != nil {
+			return err
+		}
 	}
-	r.goOn()
+	if r.line.whole() {
+		r.goOn()
+	}
 	return nil
 }
 

@@ -81,11 +81,14 @@ func TestAdded(t *testing.T) {
 	}
 }
 
-// put puts bytes in, and tells the rows that were taken.
+// put puts bytes in, and tells the rows that got whole.
 func put(of head.Head, bytes string) (string, error) {
 	var told strings.Builder
-	r := New(of, func(part Part, y int, row []byte) error {
-		fmt.Fprintf(&told, "%d,%d:%d:%x ", part.X, part.Y, y, row)
+	var r *Rows
+	r = New(of, func(part Part, y int, sofar []byte) error {
+		if len(sofar) == r.bytesOf(part) {
+			fmt.Fprintf(&told, "%d,%d:%d:%x ", part.X, part.Y, y, sofar)
+		}
 		return nil
 	})
 	for i := range len(bytes) {
@@ -96,7 +99,25 @@ func put(of head.Head, bytes string) (string, error) {
 	return told.String(), nil
 }
 
-func TestRowsAreTakenAsTheyGetWhole(t *testing.T) {
+// A row is taken with each of its bytes; with its filter it is not.
+func TestRowsAreTakenAsTheirBytesCome(t *testing.T) {
+	told := ""
+	r := New(head.Head{Width: 3, Height: 2, Depth: 8, Kind: head.Grey}, func(part Part, y int, sofar []byte) error {
+		told += fmt.Sprintf("%d:%x ", y, sofar)
+		return nil
+	})
+	for i, c := range []struct {
+		b    byte
+		want string
+	}{{1, ""}, {1, "0:01 "}, {1, "0:0102 "}, {1, "0:010203 "}, {2, ""}, {9, "1:0a "}, {9, "1:0a0b "}, {9, "1:0a0b0c "}} {
+		told = ""
+		if err := r.Put(c.b); err != nil || told != c.want {
+			t.Errorf("byte %d: %q, %v, want %q", i, told, err, c.want)
+		}
+	}
+}
+
+func TestRowsAreWholeAndUnfiltered(t *testing.T) {
 	grey := head.Head{Width: 3, Height: 3, Depth: 8, Kind: head.Grey}
 	small := grey
 	small.Interlaced = true

@@ -36,6 +36,15 @@ var crcOfNibble = [16]uint32{
 // Crc is the CRC sum of the bytes so far; that of no byte is 0.
 type Crc uint32
 
+// CrcOf is the CRC sum of the bytes of a text.
+func CrcOf(s string) Crc {
+	var sum Crc
+	for i := range len(s) {
+		sum = sum.Add(s[i])
+	}
+	return sum
+}
+
 // Add is the sum with one more byte.
 func (s Crc) Add(b byte) Crc {
 	// A sum has all bits of the rest turned over: so they are turned back to

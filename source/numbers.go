@@ -19,17 +19,21 @@ func Count(from Bytes) (int, error) {
 	return count, nil
 }
 
-// Short reads a number of two bytes.
-func Short(from Bytes) (uint16, error) {
-	high, err := Need(from)
-	if err != nil {
-		return 0, err
+// Short reads a number of two bytes, which must be below another one. That it
+// is not may be told behind its first byte.
+func Short(from Bytes, below int) (uint16, error) {
+	number := 0
+	for _, worth := range [2]int{256, 1} {
+		b, err := Need(from)
+		if err != nil {
+			return 0, err
+		}
+		number += worth * int(b)
+		if number >= below {
+			return 0, fault.NewMalformed("a number that is too great")
+		}
 	}
-	low, err := Need(from)
-	if err != nil {
-		return 0, err
-	}
-	return uint16(high)<<8 | uint16(low), nil
+	return uint16(number), nil
 }
 
 // Expect reads bytes that must be just those of a text.

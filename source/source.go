@@ -13,6 +13,13 @@ type Bytes interface {
 	NextByte() (byte, error)
 }
 
+// Ending gives bytes of which none may be left over.
+type Ending interface {
+	Bytes
+	// NoMore is an error if there is a further byte.
+	NoMore() error
+}
+
 // Need takes the next byte where there must be one.
 func Need(from Bytes) (byte, error) {
 	b, err := from.NextByte()

@@ -21,6 +21,12 @@ func TestTextGivesItsBytesAndEnds(t *testing.T) {
 			t.Errorf("byte %d: %d, %v, want %d", i, b, err, text[i])
 		}
 	}
+	if err := OfText("x").NoMore(); !isMalformed(err) {
+		t.Errorf("a byte is left: %v", err)
+	}
+	if err := from.NoMore(); err != nil {
+		t.Errorf("no byte is left: %v", err)
+	}
 	for range 3 {
 		if b, err := from.NextByte(); b != 0 || !errors.Is(err, fault.End) {
 			t.Errorf("behind the end: %d, %v", b, err)
@@ -91,17 +97,35 @@ func TestCount(t *testing.T) {
 
 func TestShort(t *testing.T) {
 	for text, want := range map[string]uint16{"\x00\x00": 0, "\x00\x01": 1, "\x12\x34": 0x1234, "\xff\xff": 65535} {
-		from := &given.Source{Text: text + "more", Behind: fault.Failed}
-		if got, err := Short(from); got != want || err != nil || from.Asked != 2 {
-			t.Errorf("%x: %d, %v, asked %d times; want %d", text, got, err, from.Asked, want)
+		for _, below := range []int{int(want) + 1, 65536} {
+			from := &given.Source{Text: text + "more", Behind: fault.Failed}
+			if got, err := Short(from, below); got != want || err != nil || from.Asked != 2 {
+				t.Errorf("%x below %d: %d, %v, asked %d times; want %d", text, below, got, err, from.Asked, want)
+			}
 		}
 	}
 	for _, text := range []string{"", "\x7f"} {
-		if got, err := Short(&given.Source{Text: text, Behind: fault.End}); got != 0 || !isMalformed(err) {
+		if got, err := Short(&given.Source{Text: text, Behind: fault.End}, 65536); got != 0 || !isMalformed(err) {
 			t.Errorf("%x: %d, %v", text, got, err)
 		}
-		if got, err := Short(&given.Source{Text: text, Behind: fault.Failed}); got != 0 || !errors.Is(err, fault.Failed) {
+		if got, err := Short(&given.Source{Text: text, Behind: fault.Failed}, 65536); got != 0 || !errors.Is(err, fault.Failed) {
 			t.Errorf("%x: %d, %v", text, got, err)
+		}
+	}
+}
+
+// The byte that settles that a number is too great is the last one asked for.
+func TestShortThatIsTooGreat(t *testing.T) {
+	for _, c := range []struct {
+		text         string
+		below, asked int
+	}{
+		{"\x00\x02", 2, 2}, {"\x00\x03", 2, 2}, {"\x01", 256, 1}, {"\x01", 2, 1}, {"\xff", 256, 1},
+		{"\x01\x01", 257, 2}, {"\x12\x34", 0x1234, 2}, {"\x12", 0x1200, 1}, {"\xff\xff", 65535, 2},
+	} {
+		from := &given.Source{Text: c.text, Behind: fault.Failed}
+		if got, err := Short(from, c.below); got != 0 || !isMalformed(err) || from.Asked != c.asked {
+			t.Errorf("%x below %d: %d, %v, asked %d times; want %d", c.text, c.below, got, err, from.Asked, c.asked)
 		}
 	}
 }

@@ -21,3 +21,6 @@ func (t *Text) NextByte() (byte, error) {
 	t.rest = t.rest[1:]
 	return b, nil
 }
+
+// NoMore is an error if a byte is left.
+func (t *Text) NoMore() error { return NoMore(t) }

@@ -5,11 +5,7 @@ import "vellum/running"
 
 // Crc is the CRC sum of a text (P3).
 func Crc(s string) uint32 {
-	var sum running.Crc
-	for i := range len(s) {
-		sum = sum.Add(s[i])
-	}
-	return uint32(sum)
+	return uint32(running.CrcOf(s))
 }
 
 // Adler is the Adler sum of a text (P4).

@@ -27,7 +27,8 @@ func Packed(from source.Bytes, window, most int, put Put) (int, error) {
 type unpacker struct {
 	bits   *bitrow.Reader
 	window *ring.Ring[byte]
-	left   int // how many bytes may still be put out
+	left   int  // how many bytes may still be put out
+	all    bool // whether all of them must be
 	put    Put
 	fixed  *tables // nil up to the first block of sort 1
 }
@@ -61,7 +62,7 @@ func (u *unpacker) block() (bool, error) {
 	}
 	switch sort {
 	case 0:
-		err = u.stored()
+		err = u.stored(last == 1)
 	case 1:
 		err = u.withFixedCodes()
 	case 2:
@@ -69,24 +70,17 @@ func (u *unpacker) block() (bool, error) {
 	default:
 		err = fault.NewMalformed("no block is of sort 3")
 	}
+	if err == nil && last == 1 {
+		err = u.enough(0)
+	}
 	return last == 1, err
 }
 
 // stored puts out the bytes of a block of sort 0.
-func (u *unpacker) stored() error {
+func (u *unpacker) stored(last bool) error {
 	u.bits.Align()
-	count, err := u.bits.Number(16)
+	count, err := u.readCount(last)
 	if err != nil {
-		return err
-	}
-	turned, err := u.bits.Number(16)
-	if err != nil {
-		return err
-	}
-	if count^turned != 0xffff {
-		return fault.NewMalformed("the count of bytes and its turned-over number do not fit")
-	}
-	if err := u.room(count); err != nil {
 		return err
 	}
 	for range count {
@@ -97,6 +91,39 @@ func (u *unpacker) stored() error {
 		if err := u.putByte(byte(b)); err != nil {
 			return err
 		}
+	}
+	return nil
+}
+
+// readCount reads how many bytes a block of sort 0 has. Whether there may be as
+// many is told ahead of all that follows.
+func (u *unpacker) readCount(last bool) (int, error) {
+	count, err := u.bits.Number(16)
+	if err != nil {
+		return 0, err
+	}
+	if err := u.room(count); err != nil {
+		return 0, err
+	}
+	if last {
+		if err := u.enough(count); err != nil {
+			return 0, err
+		}
+	}
+	return count, u.readTurned(count)
+}
+
+// readTurned reads a number of 16 bits, in which each bit must be the other one.
+func (u *unpacker) readTurned(count int) error {
+	for range 2 {
+		turned, err := u.bits.Number(8)
+		if err != nil {
+			return err
+		}
+		if byte(turned) != ^byte(count) {
+			return fault.NewMalformed("the count of bytes and its turned-over number do not fit")
+		}
+		count >>= 8
 	}
 	return nil
 }
@@ -150,11 +177,8 @@ func (u *unpacker) single(b byte) error {
 // again puts out bytes of the window once more: as many as a literal symbol
 // says, from so far back as the distance symbol says that follows.
 func (u *unpacker) again(literal meaning, by *tables) error {
-	count, err := u.amount(literal)
+	count, err := u.amount(literal, u.room)
 	if err != nil {
-		return err
-	}
-	if err := u.room(count); err != nil {
 		return err
 	}
 	symbol, err := by.distances.Read(u.bits)
@@ -164,28 +188,36 @@ func (u *unpacker) again(literal meaning, by *tables) error {
 	if symbol.kind != aDistance {
 		return fault.NewMalformed("a distance symbol that stands for nothing")
 	}
-	back, err := u.amount(symbol)
+	back, err := u.amount(symbol, u.reach)
 	if err != nil {
 		return err
 	}
-	return u.copyBack(back, count)
-}
-
-// amount reads how much a symbol stands for in all.
-func (u *unpacker) amount(symbol meaning) (int, error) {
-	more, err := u.bits.Number(symbol.extra)
-	return symbol.least + more, err
-}
-
-func (u *unpacker) copyBack(back, count int) error {
 	for range count {
-		b, held := u.window.Back(back)
-		if !held {
-			return fault.NewMalformed("a distance that reaches too far back")
-		}
+		b, _ := u.window.Back(back)
 		if err := u.putByte(b); err != nil {
 			return err
 		}
+	}
+	return nil
+}
+
+// amount reads how much a symbol stands for in all, which must fit. So must the
+// least that it may be: that may settle it ahead of the number that follows.
+func (u *unpacker) amount(symbol meaning, fits func(amount int) error) (int, error) {
+	if err := fits(symbol.least); err != nil {
+		return 0, err
+	}
+	more, err := u.bits.Number(symbol.extra)
+	if err != nil {
+		return 0, err
+	}
+	return symbol.least + more, fits(symbol.least + more)
+}
+
+// reach says whether there is a byte so far back.
+func (u *unpacker) reach(back int) error {
+	if _, held := u.window.Back(back); !held {
+		return fault.NewMalformed("a distance that reaches too far back")
 	}
 	return nil
 }
@@ -195,6 +227,15 @@ func (u *unpacker) copyBack(back, count int) error {
 func (u *unpacker) room(count int) error {
 	if count > u.left {
 		return fault.NewMalformed("more bytes than there may be")
+	}
+	return nil
+}
+
+// enough says whether there will be as many bytes as there must be, if so many
+// further ones are the last.
+func (u *unpacker) enough(count int) error {
+	if u.all && count < u.left {
+		return fault.NewMalformed("fewer bytes than there must be")
 	}
 	return nil
 }

@@ -12,7 +12,17 @@ import (
 
 	"vellum/fault"
 	"vellum/given"
+	"vellum/source"
 )
+
+// ending is a source that may be asked whether it is at its end.
+type ending struct{ *given.Source }
+
+func (e ending) NoMore() error { return source.NoMore(e) }
+
+func endingOf(text string, behind error) ending {
+	return ending{&given.Source{Text: text, Behind: behind}}
+}
 
 func sample() string {
 	return strings.Repeat("packed bytes and ", 30) + "something else: 0123456789"
@@ -55,7 +65,7 @@ func TestSourceThatFailsAnywhere(t *testing.T) {
 	row := rowOfSample()
 	for n := range len(row) + 1 {
 		var out strings.Builder
-		err := Wrapped(&given.Source{Text: row[:n], Behind: fault.Failed}, len(sample()), out.WriteByte)
+		err := Wrapped(endingOf(row[:n], fault.Failed), len(sample()), out.WriteByte)
 		if !errors.Is(err, fault.Failed) {
 			t.Errorf("a row that fails behind %d bytes: %v", n, err)
 		}
@@ -78,11 +88,11 @@ func TestSourceThatEndsTooEarly(t *testing.T) {
 // Nothing is asked for behind the byte with the last bit of packed bytes.
 func TestNothingIsAskedForBehindPackedBytes(t *testing.T) {
 	for _, s := range streams() {
-		source := &given.Source{Text: s, Behind: fault.Failed}
+		from := &given.Source{Text: s, Behind: fault.Failed}
 		var out strings.Builder
-		taken, err := Packed(source, 32768, 10000, out.WriteByte)
-		if err != nil || taken != len(s) || source.Asked != len(s) {
-			t.Errorf("%d bytes, %d asked for, %d told, %v", len(s), source.Asked, taken, err)
+		taken, err := Packed(from, 32768, 10000, out.WriteByte)
+		if err != nil || taken != len(s) || from.Asked != len(s) {
+			t.Errorf("%d bytes, %d asked for, %d told, %v", len(s), from.Asked, taken, err)
 		}
 	}
 }
@@ -90,13 +100,13 @@ func TestNothingIsAskedForBehindPackedBytes(t *testing.T) {
 // Behind a wrapped row it is asked just once whether there is more.
 func TestBehindAWrappedRow(t *testing.T) {
 	row := rowOfSample()
-	source := &given.Source{Text: row, Behind: fault.End}
+	from := endingOf(row, fault.End)
 	var out strings.Builder
-	if err := Wrapped(source, len(sample()), out.WriteByte); err != nil || out.String() != sample() {
+	if err := Wrapped(from, len(sample()), out.WriteByte); err != nil || out.String() != sample() {
 		t.Errorf("%q, %v", out.String(), err)
 	}
-	if source.Asked != len(row)+1 {
-		t.Errorf("%d times asked for %d bytes", source.Asked, len(row))
+	if from.Asked != len(row)+1 {
+		t.Errorf("%d times asked for %d bytes", from.Asked, len(row))
 	}
 }
 
@@ -129,8 +139,9 @@ func TestMalformedIsToldAtOnce(t *testing.T) {
 		{"sort 3", "\x06"},
 		{"287 literal symbols", "\xf4"},
 		{"31 distance symbols", "\x04\x1e"},
-		{"a count and its turned-over number", "\x01\x02\x00\xfc\xff"},
-		{"a count above what there may be", "\x01\x20\x4e\xdf\xb1"},
+		{"a count and its turned-over number", "\x01\x02\x00\xfc"},
+		{"a count and the second byte of its turned-over number", "\x01\x02\x00\xfd\xfe"},
+		{"a count above what there may be", "\x01\x20\x4e"},
 		{"no codes for lengths", "\x05\x00\x00\x00"},
 		{"only one code for lengths", "\x05\x00\x10\x00"},
 		{"no code for 256", noEnd()},
@@ -151,15 +162,49 @@ func TestMalformedIsToldAtOnce(t *testing.T) {
 		{"the second byte", "\x78\x9d", 1},
 		{"the packed bytes", "\x78\x9c\x07", 1},
 		{"fewer bytes", "\x78\x9c\x4b\x04\x00", 2},
+		{"fewer bytes, by the count of the last block", "\x78\x9c\x01\x01\x00", 2},
 		{"more bytes", "\x78\x9c\x4b\x04", 0},
 		{"the sum's first byte", "\x78\x9c\x4b\x04\x00\x01", 1},
 		{"the sum's last byte", "\x78\x9c\x4b\x04\x00\x00\x62\x00\x63", 1},
 		{"a byte behind", "\x78\x9c\x4b\x04\x00\x00\x62\x00\x62\x00", 1},
 	} {
 		var malformed *fault.Malformed
-		err := Wrapped(&given.Source{Text: c.row, Behind: fault.Failed}, c.size, func(byte) error { return nil })
+		err := Wrapped(endingOf(c.row, fault.Failed), c.size, func(byte) error { return nil })
 		if !errors.As(err, &malformed) {
 			t.Errorf("a row, %s: %v", c.name, err)
+		}
+	}
+}
+
+// bytesOf makes bytes of a row of bits, of each byte the lowest first.
+func bytesOf(bits string) string {
+	bits = strings.ReplaceAll(bits, " ", "")
+	out := make([]byte, (len(bits)+7)/8)
+	for i := range bits {
+		out[i/8] |= (bits[i] - '0') << (i % 8)
+	}
+	return string(out)
+}
+
+// The least that a symbol stands for may settle it ahead of the number behind it,
+// which begins in the last byte that is there, and ends behind it.
+func TestAmountsAreToldAheadOfTheirNumbers(t *testing.T) {
+	const fixed, byte144, length227, byte0, length3 = "1 10 ", "110010000 ", "11000100 ", "00110000 ", "0000001 "
+	for _, c := range []struct {
+		name, bits string
+		most       int
+		fails      bool
+	}{
+		{"a length of at least 227, of 226 bytes", fixed + byte144 + length227 + "0000", 227, false},
+		{"a length of at least 227, of 227 bytes", fixed + byte144 + length227 + "0000", 228, true},
+		{"a distance of at least 24577, behind 1 byte", fixed + byte0 + length3 + "11101 0", 10, false},
+		{"a distance of at least 17, behind 16 bytes", fixed + strings.Repeat(byte0, 16) + length3 + "01000 0", 30, false},
+		{"a distance of at least 17, behind 17 bytes", fixed + strings.Repeat(byte0, 17) + length3 + "01000 0", 30, true},
+	} {
+		_, err := Packed(&given.Source{Text: bytesOf(c.bits), Behind: fault.Failed}, 32768, c.most, func(byte) error { return nil })
+		var malformed *fault.Malformed
+		if errors.As(err, &malformed) == c.fails || errors.Is(err, fault.Failed) != c.fails {
+			t.Errorf("%s: %v", c.name, err)
 		}
 	}
 }
@@ -171,7 +216,7 @@ func TestWhereItWasIsTold(t *testing.T) {
 	if err == nil || err.Error() != "block 2: bit 23: malformed: no block is of sort 3" {
 		t.Errorf("%v", err)
 	}
-	err = Wrapped(&given.Source{Text: "\x78\x9c\x07", Behind: fault.End}, 0, nowhere)
+	err = Wrapped(endingOf("\x78\x9c\x07", fault.End), 0, nowhere)
 	if err == nil || err.Error() != "byte 3: block 0: bit 19: malformed: no block is of sort 3" {
 		t.Errorf("%v", err)
 	}

@@ -9,9 +9,13 @@ import (
 
 // Wrapped unpacks a wrapped row, which is all that a source has, and which puts
 // out just so many bytes.
-func Wrapped(from source.Bytes, size int, put Put) error {
+func Wrapped(from source.Ending, size int, put Put) error {
 	bits := bitrow.New(from)
-	if err := wrapped(bits, size, put); err != nil {
+	err := wrapped(bits, size, put)
+	if err == nil {
+		err = from.NoMore()
+	}
+	if err != nil {
 		return fault.At("byte", bits.Taken(), err)
 	}
 	return nil
@@ -27,16 +31,11 @@ func wrapped(bits *bitrow.Reader, size int, put Put) error {
 		sum = sum.Add(b)
 		return put(b)
 	})
+	u.all = true
 	if err := u.blocks(); err != nil {
 		return err
 	}
-	if u.left > 0 {
-		return fault.NewMalformed("fewer bytes than there must be")
-	}
-	if err := readSum(bits, uint32(sum)); err != nil {
-		return err
-	}
-	return bits.End()
+	return readSum(bits, uint32(sum))
 }
 
 // readHead reads the first two bytes, which say how great a distance may be.
